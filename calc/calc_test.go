@@ -394,3 +394,63 @@ func TestBytes(t *testing.T) {
 		}
 	}
 }
+
+// edgeVals answers Vals of all kinds, most of them wrong, made of numbers at the edges.
+func edgeVals() []api.Val {
+	var out []api.Val
+	edges := []uint64{0, 1, 6, 1 << 63, top - 1, top}
+	for _, value := range edges {
+		for _, mask := range edges {
+			for _, low := range edges {
+				for _, high := range edges {
+					out = append(out, api.Val{Bits: api.Bits{Value: value, Mask: mask}, Low: low, High: high})
+				}
+			}
+		}
+	}
+	return out
+}
+
+type answer struct {
+	a, b api.Val
+	may  bool
+	e    api.Errno
+}
+
+// ask answers what the calls of this package tell of v and w, one behind another.
+func ask(v, w api.Val) []answer {
+	var out []answer
+	for op := 0; op <= api.Load; op++ {
+		a, e := Two(op, v, w)
+		out = append(out, answer{a, api.Val{}, e == api.OK, e})
+	}
+	for _, c := range compares() {
+		a, b, may, e := c.call(v, w)
+		out = append(out, answer{a, b, may, e})
+	}
+	return out
+}
+
+// TestAnyInput: with an error, or a false, all else is zero; asked again, later and in another order, the answers are the same.
+func TestAnyInput(t *testing.T) {
+	all := edgeVals()
+	some := []api.Val{{}, {Low: 1}, val.Any(), odd(3, 9), span(top-3, top)}
+	var first [][]answer
+	for _, v := range all {
+		for _, w := range some {
+			first = append(first, ask(v, w))
+		}
+	}
+	for i := len(first) - 1; i >= 0; i-- {
+		v, w := all[i/len(some)], some[i%len(some)]
+		for k, again := range ask(v, w) {
+			was := first[i][k]
+			if was != again {
+				t.Fatalf("of %v and %v: first %v, then %v", v, w, was, again)
+			}
+			if !was.may && (was.a != api.Val{} || was.b != api.Val{}) || was.e != api.OK && was.may {
+				t.Fatalf("of %v and %v: %v", v, w, was)
+			}
+		}
+	}
+}
